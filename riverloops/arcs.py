@@ -1,6 +1,6 @@
 """Arcs on one bank of the river: told by lists, written by words, turned, mirrored and put together."""
 
-from riverloops.errors import NoArcs, NotRead, TooMany
+from riverloops.errors import NoArcs, NotRead, TooMany, Unlike
 
 MOST_ARCS = 20
 
@@ -44,9 +44,29 @@ def refuse_no_arcs(some, called="the list"):
         raise NoArcs(f"{called} tells no arcs")
 
 
+def refuse_no_rows(one, other):
+    refuse_no_arcs(one, "the first list")
+    refuse_no_arcs(other, "the second list")
+
+
+def refuse_unlike(one, other):
+    refuse_no_rows(one, other)
+    if len(one) != len(other):
+        raise Unlike("the two lists tell arcs of unlike numbers")
+
+
 def refuse_too_many(bridges):
     if bridges > 2 * MOST_ARCS:
         raise TooMany(f"there would be more than {MOST_ARCS} arcs")
+
+
+def join_bridges(arcs, here, there):
+    arcs[here] = there
+    arcs[there] = here
+
+
+def in_one_row(one, other):
+    return one + [len(one) + there for there in other]
 
 
 def word_of(arcs):
@@ -63,9 +83,7 @@ def arcs_of(word):
         if sign == "(":
             waiting.append(here)
         elif sign == ")" and len(waiting) > 0:
-            there = waiting.pop()
-            arcs[there] = here
-            arcs[here] = there
+            join_bridges(arcs, waiting.pop(), here)
         else:
             raise NotRead(f"the sign at place {here} belongs to no arc")
     if len(waiting) > 0:
@@ -86,10 +104,9 @@ def mirrored(arcs):
 
 
 def beside(one, other):
-    refuse_no_arcs(one, "the first list")
-    refuse_no_arcs(other, "the second list")
+    refuse_no_rows(one, other)
     refuse_too_many(len(one) + len(other))
-    return one + [len(one) + there for there in other]
+    return in_one_row(one, other)
 
 
 def covered(arcs):

@@ -1,6 +1,29 @@
-"""Rows of arcs for the tests, found by the document's own words and without the program."""
+"""What the tests share: rows of arcs and roads, found by the document's own words and without the program."""
 
+import unittest
 from itertools import combinations, product
+
+from riverloops.errors import RiverError
+
+HUGE = 10 ** 60 - 1
+
+
+class ArcsCase(unittest.TestCase):
+    def assert_refused(self, refusal, call, *given):
+        """The refusal itself, neither a class above it nor one beneath it."""
+        with self.assertRaises(RiverError) as taken:
+            call(*given)
+        self.assertIs(type(taken.exception), refusal)
+        self.assertIsInstance(taken.exception, ValueError)
+
+    def assert_arcs(self, told, expected):
+        self.assertIs(type(told), list)
+        self.assertTrue(all(type(bridge) is int for bridge in told))
+        self.assertEqual(told, expected)
+
+    def assert_number(self, told, expected):
+        self.assertIs(type(told), int)
+        self.assertEqual(told, expected)
 
 
 def cross(first, second):
@@ -89,6 +112,96 @@ def mixed(size):
 def long_rows(size):
     return [side_by_side(size), nested(size), mixed(size)]
 
+
+def read(word):
+    """The row that a word writes: each end is joined to the last beginning that waits."""
+    told, waiting = [None] * len(word), []
+    for here, sign in enumerate(word):
+        if sign == "(":
+            waiting.append(here)
+        else:
+            told[here] = waiting.pop()
+            told[told[here]] = here
+    return told
+
+
+def scattered(size, seed):
+    """So many arcs, as a fixed sequence of numbers that begins with the seed has it."""
+    word, state = "", seed
+    for place in range(2 * size):
+        state = (state * 1103515245 + 12345) % 2 ** 31
+        waiting = word.count("(") - word.count(")")
+        may_open = word.count("(") < size
+        word += "(" if may_open and (waiting == 0 or state // 2 ** 16 % 7 < 3 + seed % 2) else ")"
+    return read(word)
+
+
+def put_beside(one, other):
+    return one + [there + len(one) for there in other]
+
+
+def put_under(row):
+    return [len(row) + 1] + [there + 1 for there in row] + [0]
+
+
+def many_kinds(size):
+    """Rows of so many arcs, at least 6: side by side, within one another, and mixed in many ways."""
+    half, rest = size // 2, size - size // 2
+    found = long_rows(size) + [scattered(size, seed) for seed in range(12)]
+    for one in long_rows(half):
+        found.append(put_beside(one, nested(rest)))
+        found.append(put_beside(nested(rest), one))
+        found.append(put_under(put_beside(one, side_by_side(rest - 1))))
+    return found
+
+
+def pairs(most):
+    """All pairs of rows of 1 to so many arcs."""
+    return [pair for size in range(1, most + 1) for pair in product(rows(size), repeat=2)]
+
+
+def long_pairs(size):
+    return list(product(many_kinds(size), repeat=2))
+
+
+def unlike_pairs():
+    """Pairs of rows of unlike numbers."""
+    found = [(one, other) for one, other in product(small_rows(), repeat=2) if len(one) != len(other)]
+    for size in range(3, 20):
+        for one, other in zip(long_rows(size), long_rows(20)):
+            found += [(one, other), (other, one)]
+    return found
+
+
+def walked(above, below):
+    """The roads, walked bridge by bridge as point 6 says it."""
+    left = set(range(len(above)))
+    told = []
+    while left:
+        road = [min(left)]
+        while True:
+            bank = above if len(road) % 2 else below
+            there = bank[road[-1]]
+            if there == road[0]:
+                break
+            road.append(there)
+        told.append(road)
+        left -= set(road)
+    return told
+
+
+def parts(joins):
+    """How many parts hang together in themselves, of all that these pairs join."""
+    part_of = {thing: {thing} for join in joins for thing in join}
+    for one, other in joins:
+        both = part_of[one] | part_of[other]
+        for thing in both:
+            part_of[thing] = both
+    return len({frozenset(part) for part in part_of.values()})
+
+
+# Numbers of which there are no arcs.
+NO_SIZES = [0, -1, -2, -20, 21, 22, 30, 60, 100, HUGE, -HUGE, 10 ** 70, -(10 ** 70)]
 
 NO_ARCS = {
     "empty": [],

@@ -8,10 +8,9 @@ from riverloops import arcs as module
 from riverloops.arcs import arcs_of, beside, covered, is_arcs, mirrored, turned, word_of
 from riverloops.errors import NoArcs, NotRead, RiverError, TooMany
 from tests.rows import (
-    NO_ARCS, is_word, joined, long_rows, mixed, nested, rows, side_by_side, small_rows, tells_arcs, words,
+    HUGE, NO_ARCS, ArcsCase, is_word, joined, long_rows, mixed, nested, rows, side_by_side, small_rows, tells_arcs,
+    words,
 )
-
-HUGE = 10 ** 60 - 1
 
 # Every call that takes one list of arcs and refuses a list that tells none.
 CALLS = {
@@ -37,20 +36,6 @@ GIVING = {
     "beside, second": lambda arcs: beside([1, 0], arcs),
     "beside itself": lambda arcs: beside(arcs, arcs),
 }
-
-
-class ArcsCase(unittest.TestCase):
-    def assert_refused(self, refusal, call, *given):
-        """The refusal itself, neither a class above it nor one beneath it."""
-        with self.assertRaises(RiverError) as taken:
-            call(*given)
-        self.assertIs(type(taken.exception), refusal)
-        self.assertIsInstance(taken.exception, ValueError)
-
-    def assert_arcs(self, told, expected):
-        self.assertIs(type(told), list)
-        self.assertTrue(all(type(bridge) is int for bridge in told))
-        self.assertEqual(told, expected)
 
 
 class TestInterface(unittest.TestCase):

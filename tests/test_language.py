@@ -75,6 +75,24 @@ class TestLanguage(unittest.TestCase):
         body = ast.parse((PACKAGE / "__init__.py").read_text()).body
         self.assertEqual([type(node) for node in body], [ast.Expr])
 
+    def test_each_name_is_drawn_from_the_file_that_defines_it_and_no_two_files_from_one_another(self):
+        defines, draws = {}, {}
+        for path in PACKAGE.glob("*.py"):
+            body = ast.parse(path.read_text()).body
+            named = [node.name for node in body if isinstance(node, (ast.FunctionDef, ast.ClassDef))]
+            given = [node.targets[0].id for node in body if isinstance(node, ast.Assign)]
+            defines[f"{PACKAGE.name}.{path.stem}"] = named + given
+            draws[f"{PACKAGE.name}.{path.stem}"] = [node for node in body if isinstance(node, ast.ImportFrom)]
+        for nodes in draws.values():
+            for node in nodes:
+                for alias in node.names:
+                    self.assertIn(alias.name, defines[node.module])
+        # Files that draw from none that is left are taken away: were two to draw from one another, they would stay.
+        left = {name: {node.module for node in nodes} for name, nodes in draws.items()}
+        while any(not drawn & set(left) for drawn in left.values()):
+            left = {name: drawn for name, drawn in left.items() if drawn & set(left)}
+        self.assertEqual(left, {})
+
     def test_the_rules_are_seen(self):
         for rule, text in SENT_BACK:
             with self.subTest(rule=rule, text=text):
